@@ -1,0 +1,1 @@
+"""Seats kept from lower fares, by exact expectation: see keptseats.plan."""
