@@ -35,16 +35,52 @@ def decide(i, x, n):
     return [6, i, x, n]
 
 
-def play(asked):
-    return [7] + row(asked)
+def play(numbers):
+    return [7] + row(numbers)
 
 
 def mean(kept):
     return [8] + row(kept)
 
 
-def known(asked):
-    return [9] + row(asked)
+def known(numbers):
+    return [9] + row(numbers)
+
+
+def meanknown():
+    return [10]
+
+
+def chance(i, n):
+    return [11, i, n]
+
+
+def asked(i):
+    return [12, i]
+
+
+def period(weights):
+    return [13] + row(weights)
+
+
+def spanvalue(t, x):
+    return [14, t, x]
+
+
+def accept(t, x):
+    return [15, t, x]
+
+
+def requests(x, wanted):
+    return [16, x] + row(wanted)
+
+
+def clear():
+    return [17]
+
+
+def shown():
+    return [18]
 
 
 def flat(calls):

@@ -1,11 +1,15 @@
-"""The edges that the document names; the due answers are worked out by hand."""
+"""The edges that the document names; the due answers are worked out by hand.
+
+Those of the periods stand in test_periods.
+"""
 
 import math
 import unittest
 from fractions import Fraction
 
 from tests.helper import (
-    ask, ask_last, decide, demand, known, marginal, mean, new, observe, play, protections, value,
+    ask, ask_last, asked, chance, decide, demand, known, marginal, mean, meanknown, new, observe, play, protections,
+    value,
 )
 
 
@@ -53,8 +57,8 @@ class NoSeats(unittest.TestCase):
     PLAN = [new(0, [10, 5]), demand(0, [0, 1]), demand(1, [0, 0, 1])]
 
     def test_worth_nothing(self):
-        got = ask(*self.PLAN, value(0, 0), value(1, 0), mean([0]), mean([60]))
-        self.assertEqual(got[3:], [[0, 0, 1]] * 4)
+        got = ask(*self.PLAN, value(0, 0), value(1, 0), mean([0]), mean([60]), meanknown())
+        self.assertEqual(got[3:], [[0, 0, 1]] * 5)
 
     def test_nothing_kept_or_sold(self):
         got = ask(*self.PLAN, protections(), decide(0, 0, 60), decide(1, 0, 60), play([60, 60]), known([60, 60]))
@@ -80,9 +84,42 @@ class AskingForNothing(unittest.TestCase):
         got = ask(new(60, [3, 2, 1]), value(2, 60), marginal(2, 60), protections(), mean([0, 0]), play([1, 2, 3]))
         self.assertEqual(got[1:], [[0, 0, 1], [0, 0, 1], [0, 0, 0], [0, 0, 1], [0, 1, 2, 3, 10]])
 
+    def test_meanknown_chance_and_asked(self):
+        got = ask(new(60, [3, 2]), meanknown(), chance(0, 0), chance(0, 1), chance(0, 60), asked(0), asked(1))
+        self.assertEqual(got[1:], [[0, 0, 1], [0, 1, 1], [0, 0, 1], [0, 0, 1], [0, 0, 1], [0, 0, 1]])
+
+    def test_meanknown_with_one_class_that_asks(self):
+        # Class 1 alone asks, for 1 or 3 seats with 1/2 each.
+        for seats, due in ((0, 0), (1, 8), (2, 12), (3, 16), (60, 16)):
+            plan = [new(seats, [10, 8, 2]), demand(1, [0, 1, 0, 1])]
+            self.assertEqual(ask_last(*plan, meanknown()), [0, due, 1], seats)
+            self.assertEqual(ask_last(*plan, asked(1)), [0, 2, 1], seats)
+            self.assertEqual(ask_last(*plan, asked(0)), [0, 0, 1], seats)
+
     def test_more_asked_than_there_are_weights_for(self):
         got = ask(new(60, [3]), demand(0, [1, 1]), play([60]), known([60]), decide(0, 60, 60))
         self.assertEqual(got[2:], [[0, 60, 180], [0, 60, 180], [0, 60]])
+
+
+class ChanceAtTheWeights(unittest.TestCase):
+    PLAN = [new(9, [10]), demand(0, [2, 0, 3, 1])]
+
+    def test_from_0_to_beyond_the_last_weight(self):
+        due = {0: (1, 1), 1: (2, 3), 2: (2, 3), 3: (1, 6), 4: (0, 1), 5: (0, 1), 20: (0, 1), 60: (0, 1)}
+        for n in due:
+            self.assertEqual(ask_last(*self.PLAN, chance(0, n)), [0, *due[n]], n)
+
+    def test_a_last_weight_of_0(self):
+        got = ask(new(9, [10]), demand(0, [0, 5, 0]), chance(0, 0), chance(0, 1), chance(0, 2), chance(0, 3), asked(0))
+        self.assertEqual(got[2:], [[0, 1, 1], [0, 1, 1], [0, 0, 1], [0, 0, 1], [0, 1, 1]])
+
+    def test_the_last_of_21_weights(self):
+        got = ask(new(9, [10]), demand(0, [1000] * 21), chance(0, 20), chance(0, 21), chance(0, 1), asked(0))
+        self.assertEqual(got[2:], [[0, 1, 21], [0, 0, 1], [0, 20, 21], [0, 10, 1]])
+
+    def test_a_weight_that_observe_brought(self):
+        got = ask(new(9, [10]), observe(0, 20), chance(0, 1), chance(0, 20), chance(0, 21), asked(0))
+        self.assertEqual(got[2:], [[0, 1, 2], [0, 1, 2], [0, 0, 1], [0, 10, 1]])
 
 
 class ObserveBeyond(unittest.TestCase):
@@ -154,7 +191,8 @@ class Fractions(unittest.TestCase):
         self.assertEqual(due.denominator, math.prod(sums))
         self.assertGreater(due.denominator, 10 ** 31)
         answer = [0, due.numerator, due.denominator]
-        self.assertEqual(ask(*calls, value(7, 60), mean([0] * 7))[-2:], [answer, answer])
+        got = ask(*calls, value(7, 60), mean([0] * 7), meanknown(), asked(0))
+        self.assertEqual(got[-4:], [answer, answer, answer, [0, 28000, 7993]])
 
 
 class FewerLeftThanKept(unittest.TestCase):

@@ -1,4 +1,4 @@
-"""Promises 0 to 9 on ordinary inputs; the due answers are worked out by hand.
+"""Promises 0 to 12 and 18 on ordinary inputs; the due answers are worked out by hand.
 
 The day that most tests share, TRIP: 3 seats, fares 100, 60 and 40.
 Class 0 asks for 0, 1, 2 seats with chances 1/4, 1/4, 1/2.
@@ -18,7 +18,8 @@ Class 2 asks for 1 or 3 seats with chances 1/3 and 2/3.
 import unittest
 
 from tests.helper import (
-    ask, ask_last, decide, demand, known, marginal, mean, new, observe, play, protections, value,
+    ask, ask_last, asked, chance, decide, demand, known, marginal, mean, meanknown, new, observe, period, play,
+    protections, shown, value,
 )
 
 TRIP = [
@@ -175,8 +176,8 @@ class Play(unittest.TestCase):
             (60, 0, 0): [3, 0, 0, 300],
             (0, 1, 1): [0, 1, 1, 100],
         }
-        for asked in due:
-            self.assertEqual(ask_last(*TRIP, play(asked)), [0] + due[asked], asked)
+        for numbers in due:
+            self.assertEqual(ask_last(*TRIP, play(numbers)), [0] + due[numbers], numbers)
 
 
 class Mean(unittest.TestCase):
@@ -216,11 +217,95 @@ class Known(unittest.TestCase):
             (0, 0, 60): [0, 0, 3, 120],
             (1, 0, 60): [1, 0, 2, 180],
         }
-        for asked in due:
-            self.assertEqual(ask_last(*TRIP, known(asked)), [0] + due[asked], asked)
+        for numbers in due:
+            self.assertEqual(ask_last(*TRIP, known(numbers)), [0] + due[numbers], numbers)
 
     def test_the_weights_do_not_count(self):
         self.assertEqual(ask_last(new(3, [100, 60, 40]), known([1, 0, 60])), [0, 1, 0, 2, 180])
+
+
+class MeanKnown(unittest.TestCase):
+    def test_trip(self):
+        # What's sold and earned for each day, asked for by the classes 0, 1, 2, with its chance
+        # in parts of 24 (1, 1, 2 of 4 times 1, 1 of 2 times 1, 2 of 3):
+        #   0 0 1 (1) 40;    0 0 3 (2) 120;   0 2 1 (1) 160;   0 2 3 (2) 160;
+        #   1 0 1 (1) 140;   1 0 3 (2) 180;   1 2 1 (1) 220;   1 2 3 (2) 220;
+        #   2 0 1 (2) 240;   2 0 3 (4) 240;   2 2 1 (2) 260;   2 2 3 (4) 260.
+        # 40 + 240 + 160 + 320 + 140 + 360 + 220 + 440 + 480 + 960 + 520 + 1040 = 4920; / 24 = 205.
+        self.assertEqual(ask_last(*TRIP, meanknown()), [0, 205, 1])
+
+    def test_a_fraction(self):
+        # One seat: 10 if class 0 comes (1/3), else 4 if class 1 comes (2/3 * 2/5): 50/15 + 16/15.
+        plan = [new(1, [10, 4]), demand(0, [2, 1]), demand(1, [3, 1, 1])]
+        self.assertEqual(ask_last(*plan, meanknown()), [0, 22, 5])
+
+    def test_more_seats_than_are_asked_for(self):
+        # All is sold: 100 * 5/4 + 60 * 1 + 40 * 7/3.
+        plan = [new(60, [100, 60, 40])] + TRIP[1:]
+        self.assertEqual(ask_last(*plan, meanknown()), [0, 835, 3])
+
+    def test_it_is_more_than_the_best_without_knowing(self):
+        got = ask(*TRIP, value(2, 3), meanknown())
+        self.assertEqual(got[4:], [[0, 170, 1], [0, 205, 1]])
+
+    def test_it_follows_what_is_observed(self):
+        # Class 0 asks for 0 or 1 with 1/2 each, then with 1/3 and 2/3.
+        got = ask(new(2, [12]), observe(0, 1), meanknown(), observe(0, 1), meanknown())
+        self.assertEqual(got[1:], [[0, 2], [0, 6, 1], [0, 3], [0, 8, 1]])
+
+
+class Chance(unittest.TestCase):
+    def test_trip(self):
+        due = [
+            [(1, 1), (3, 4), (1, 2), (0, 1)],
+            [(1, 1), (1, 2), (1, 2), (0, 1)],
+            [(1, 1), (1, 1), (2, 3), (2, 3), (0, 1)],
+        ]
+        for i in range(3):
+            for n, fraction in enumerate(due[i]):
+                self.assertEqual(ask_last(*TRIP, chance(i, n)), [0, *fraction], (i, n))
+
+    def test_lowest_terms(self):
+        plan = [new(1, [5]), demand(0, [6, 10, 14, 18])]
+        got = ask(*plan, chance(0, 1), chance(0, 2), chance(0, 3))
+        self.assertEqual(got[2:], [[0, 7, 8], [0, 2, 3], [0, 3, 8]])
+
+    def test_more_than_the_plans_seats_may_be_asked_for(self):
+        plan = [new(0, [5]), demand(0, [1, 1, 1, 1])]
+        self.assertEqual(ask_last(*plan, chance(0, 3)), [0, 1, 4])
+
+
+class Asked(unittest.TestCase):
+    def test_trip(self):
+        got = ask(*TRIP, asked(0), asked(1), asked(2))
+        self.assertEqual(got[4:], [[0, 5, 4], [0, 1, 1], [0, 7, 3]])
+
+    def test_more_than_the_plans_seats_may_be_asked_for(self):
+        self.assertEqual(ask_last(new(0, [5]), demand(0, [1, 1, 1, 1]), asked(0)), [0, 3, 2])
+
+    def test_it_follows_what_is_observed(self):
+        got = ask(new(3, [5]), observe(0, 7), asked(0), chance(0, 7), observe(0, 7), asked(0), chance(0, 7))
+        self.assertEqual(got[1:], [[0, 2], [0, 7, 2], [0, 1, 2], [0, 3], [0, 14, 3], [0, 2, 3]])
+
+
+class Shown(unittest.TestCase):
+    def test_trip(self):
+        self.assertEqual(ask_last(*TRIP, shown()), [0, 3, 3, 0, 100, 60, 40])
+
+    def test_one_class_and_no_seats(self):
+        self.assertEqual(ask_last(new(0, [1]), shown()), [0, 0, 1, 0, 1])
+
+    def test_the_largest(self):
+        fares = [1000000, 999999, 8, 7, 6, 5, 4, 1]
+        self.assertEqual(ask_last(new(60, fares), shown()), [0, 60, 8, 0] + fares)
+
+    def test_with_periods(self):
+        got = ask(*TRIP, period([1, 2, 3, 4]), shown(), period([1, 2, 3, 4]), shown())
+        self.assertEqual([got[5], got[7]], [[0, 3, 3, 1, 100, 60, 40], [0, 3, 3, 2, 100, 60, 40]])
+
+    def test_it_is_the_plan_made_last(self):
+        got = ask(*TRIP, new(7, [9, 4]), shown())
+        self.assertEqual(got[5], [0, 7, 2, 0, 9, 4])
 
 
 if __name__ == "__main__":
